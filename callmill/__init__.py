@@ -1,0 +1,1 @@
+"""Callmill: scripts of talk, milled to tables, with papers that show nothing changed."""
