@@ -1,4 +1,4 @@
-"""The part of Python that the package keeps to: the rules of it that a look at the written code can see."""
+"""The part of Python that the package keeps to: some of its rules, not all of them (of L13, L19, L23 and L24 little or nothing)."""
 
 import ast
 import builtins
