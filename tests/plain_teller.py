@@ -131,8 +131,11 @@ class PlainTeller:
                 return
 
 
-def set_beside(case, machine, script, events):
-    """Steps both by these events and fails where they part; tells how many turns said something, and whether it is over."""
+def set_beside(case, machine, script, events, names=None):
+    """Steps both by these events and fails where they part; tells how many turns said something, and whether it is over.
+
+    Of the values those of the boxes of these names are set beside, of all where none are told.
+    """
     text = shown(script)
     plain = PlainTeller(script)
     turns = 0
@@ -142,7 +145,8 @@ def set_beside(case, machine, script, events):
         said, standing = machine.step(standing, event)
         case.assertEqual(said, plain.turn(event), text)
         case.assertIs(machine.over(standing), plain.is_over, text)
-        case.assertEqual(machine.values(standing), () if plain.is_over else plain.now(), text)
+        values = plain.now() if names is None else tuple(plain.held[name] for name in names)
+        case.assertEqual(machine.values(standing), () if plain.is_over else values, text)
         turns += said != []
     return (turns, plain.is_over)
 
