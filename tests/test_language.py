@@ -1,4 +1,4 @@
-"""The part of Python that the package keeps to: some of its rules, not all of them (of L13, L19, L23 and L24 little or nothing)."""
+"""The part of Python that the package keeps to: many of its rules, not all of them (L19 and L28 only in part)."""
 
 import ast
 import builtins
@@ -25,6 +25,8 @@ NO_NAMES = set(
 DUNDERS = {"__init__", "__eq__", "__repr__", "__str__", "__len__"}
 NO_VALUES = set(
     "items keys values pop update append clear extend insert remove reverse setdefault sort args encode format".split())
+WALKERS = ("list", "tuple", "dict", "sorted", "sum", "any", "all", "enumerate", "zip")
+CHANGES = set("append clear extend insert pop remove reverse setdefault update".split())
 NODES = (
     ast.Module, ast.FunctionDef, ast.ClassDef, ast.arguments, ast.arg, ast.Import, ast.ImportFrom, ast.alias,
     ast.Assign, ast.AugAssign, ast.If, ast.While, ast.For, ast.Return, ast.Break, ast.Continue, ast.Pass, ast.Raise,
@@ -203,9 +205,90 @@ class Written(Case):
                 self.assertIn(node.func.attr, METHODS | methods, where)
 
     def test_walked_at_once(self):
-        for where, node in self.nodes(ast.Assign, ast.Return):
-            if isinstance(node.value, ast.Call) and isinstance(node.value.func, ast.Name):
-                self.assertNotIn(node.value.func.id, ("zip", "enumerate", "reversed", "range", "set"), where)
+        walked = {id(node.iter) for where, node in self.nodes(ast.For, ast.comprehension)}
+        for where, node in self.nodes(ast.Call):
+            name = node.func.id if isinstance(node.func, ast.Name) else node.func.attr
+            if name in WALKERS and node.args:
+                walked.add(id(node.args[0]))
+            if name in ("min", "max") and len(node.args) == 1:
+                walked.add(id(node.args[0]))
+            if name == "zip":
+                walked |= {id(each) for each in node.args}
+            if name == "join":
+                self.assertIsInstance(node.func.value, ast.Constant, where)
+                walked.add(id(node.args[0]))
+        for where, node in self.nodes(ast.Call):
+            if isinstance(node.func, ast.Name) and node.func.id in ("zip", "enumerate", "reversed", "range"):
+                self.assertIn(id(node), walked, where)
+            if isinstance(node.func, ast.Attribute) and node.func.attr in ("items", "keys", "values"):
+                self.assertIn(id(node), walked, where)
+
+    def test_what_is_walked_is_not_changed(self):
+        for where, node in self.nodes(ast.For):
+            walked = [node.iter]
+            if isinstance(node.iter, ast.Call):
+                walked = node.iter.args + ([node.iter.func.value] if isinstance(node.iter.func, ast.Attribute) else [])
+            if isinstance(node.iter, ast.Call) and isinstance(node.iter.func, ast.Name) and node.iter.func.id in ("list", "sorted"):
+                walked = []
+            kept = [ast.dump(each) for each in walked]
+            for inner in ast.walk(node):
+                if isinstance(inner, ast.Call) and isinstance(inner.func, ast.Attribute) and inner.func.attr in CHANGES:
+                    self.assertNotIn(ast.dump(inner.func.value), kept, where)
+                if isinstance(inner, ast.Subscript) and isinstance(inner.ctx, ast.Store):
+                    self.assertNotIn(ast.dump(inner.value), kept, where)
+
+    def test_sets(self):
+        fit = set()
+        for where, node in self.nodes(ast.Compare):
+            if isinstance(node.ops[0], (ast.In, ast.NotIn, ast.Eq, ast.NotEq)):
+                fit |= {id(node.left), id(node.comparators[0])}
+        for where, node in self.nodes(ast.Call):
+            if isinstance(node.func, ast.Name) and node.func.id in ("sorted", "len"):
+                fit.add(id(node.args[0]))
+        for where, node in self.nodes(ast.Call):
+            if isinstance(node.func, ast.Name) and node.func.id in ("set", "frozenset"):
+                self.assertIn(id(node), fit, where)
+
+    def test_lambdas_of_one_line(self):
+        found = [(where, ast.dump(node.args)) for where, node in self.nodes(ast.Lambda)]
+        self.assertEqual(len(found), len(set(found)))
+
+    def test_errors_that_are_taken(self):
+        own = {node.name for where, node in self.nodes(ast.ClassDef)}
+        for where, node in self.nodes(ast.ExceptHandler):
+            named = node.type.elts if isinstance(node.type, ast.Tuple) else [node.type]
+            for each in named:
+                self.assertIn(each.id, own | {"KeyError", "ZeroDivisionError", "StopIteration", "ValueError", "LookupError",
+                                              "IndexError"}, where)
+        for where, node in self.nodes(ast.Try):
+            self.assertEqual(node.finalbody, [], where)
+        for where, node in self.nodes(ast.Raise):
+            self.assertIn(node.exc.func.id, own | {"NotImplementedError"}, where)
+
+    def test_what_the_top_keeps_is_only_read(self):
+        for name, tree in self.trees.items():
+            kept = []
+            for node in tree.body:
+                if isinstance(node, ast.Assign) and isinstance(node.value, (ast.List, ast.Dict)):
+                    kept.append(node.targets[0].id)
+                    inner = [each for each in ast.walk(node.value) if isinstance(each, (ast.List, ast.Dict))]
+                    self.assertEqual(len(inner), 1, name)
+            for node in ast.walk(tree):
+                if isinstance(node, ast.Attribute) and isinstance(node.value, ast.Name):
+                    self.assertFalse(node.value.id in kept and node.attr in CHANGES, name)
+                if isinstance(node, ast.Subscript) and isinstance(node.ctx, ast.Store) and isinstance(node.value, ast.Name):
+                    self.assertNotIn(node.value.id, kept, name)
+                if isinstance(node, ast.Return) and isinstance(node.value, ast.Name):
+                    self.assertNotIn(node.value.id, kept, name)
+
+    def test_keywords(self):
+        own = {node.name for where, node in self.nodes(ast.FunctionDef, ast.ClassDef)}
+        allowed = {"sorted": {"key", "reverse"}, "min": {"key", "default"}, "max": {"key", "default"}, "sum": {"start"},
+                   "enumerate": {"start"}, "zip": {"strict"}}
+        for where, node in self.nodes(ast.Call):
+            name = node.func.id if isinstance(node.func, ast.Name) else node.func.attr
+            if name not in own:
+                self.assertLessEqual({each.arg for each in node.keywords}, allowed.get(name, set()), where)
 
 
 if __name__ == "__main__":

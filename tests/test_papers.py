@@ -294,9 +294,12 @@ class FoundCase(unittest.TestCase):
         self.assertIsNone(found_paper(other, one, list(events)))
 
     def too_many(self, one, other, events=tuple(KEYS)):
+        events = list(events)
+        kept = list(events)
         for first, second in ((one, other), (other, one)):
             with self.assertRaises(TooMany) as taken:
-                found_paper(first, second, list(events))
+                found_paper(first, second, events)
+            self.assertEqual(events, kept)
             self.assertIsInstance(taken.exception, MillError)
             self.assertIs(type(taken.exception).__bases__[0], MillError)
             self.assertNotIsInstance(taken.exception, (NoScript, NoForm, NoneYet))
@@ -506,8 +509,10 @@ class ByMap(GraphCase):
         self.assertEqual(len(map_paper(graph, graph, list(range(7)), events)), 2000)
         graph = (sizes, [("wait", 0, tuple(branches + [(key(5), 6)]), 0)] + puts + [STOP], 0)
         for other, stands_for in ((graph, list(range(7))), (small, [0] * 7), (small, [None] * 7)):
+            before = copy.deepcopy((graph, other, stands_for, events))
             with self.assertRaises(TooMany):
                 map_paper(graph, other, stands_for, events)
+            self.assertEqual((graph, other, stands_for, events), before)
         self.assertEqual(len(map_paper(graph, graph, list(range(7)), events[:-1])), 2000)
         # Of the other one's standings nothing hangs on how many they are.
         self.assertEqual(map_paper(([], [STOP], 0), graph, [6], events), [(None, None)])
