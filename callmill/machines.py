@@ -60,8 +60,12 @@ def standings(machine, events):
 
 
 def events_of(script):
-    """The events of a script: those of its patterns, and one more key and word that stand for all others."""
-    patterns = patterns_of(script)
+    """The events of a script."""
+    return events_of_patterns(patterns_of(script))
+
+
+def events_of_patterns(patterns):
+    """The events of these patterns, and one more key and word that stand for all others."""
     keys = sorted(set([pattern[1] for pattern in patterns if pattern[0] == "key"]))
     words = sorted(set([pattern[1] for pattern in patterns if pattern[0] == "word"]))
     keys.extend([key for key in range(KEYS) if key not in keys][:1])

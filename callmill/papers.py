@@ -43,29 +43,48 @@ def pair_of(one, other, told, told_beside):
 
 def found_paper(one, other, events):
     """A right paper of both machines, None where they part."""
+    told = gone_through(one, other, events)
+    return told[0] if told[1] is None else None
+
+
+def gone_through(one, other, events):
+    """A tuple (pairs, row): what both machines come to by rows that part none of them, and a row that parts them.
+
+    The row is a shortest one and of these the first by the order of the events; it is None where none parts them.
+    """
     # Each by itself is gone through first: too many standings are refused ahead of all else.
     standings(one, events)
     standings(other, events)
     first = begun_pair(one, other)
     if first is None:
-        return None
+        return ([], [])
     found = [first]
-    known = {first: True}
-    parted = False
+    ways = {first: None}
+    parted = None
     place = 0
     while place < len(found):
         for event in events:
             pair = stepped_pair(one, other, found[place], event)
             # Behind a parting the others are still gone through: too many pairs are refused ahead of it.
-            if pair is None:
-                parted = True
-            elif pair not in known:
+            if pair is None and parted is None:
+                parted = (found[place], event)
+            if pair is not None and pair not in ways:
                 if len(found) == MOST_STANDINGS:
                     raise TooMany("more than two thousand pairs of standings")
-                known[pair] = True
+                ways[pair] = (found[place], event)
                 found.append(pair)
         place += 1
-    return None if parted else found
+    return (found, None if parted is None else row_by(ways, parted))
+
+
+def row_by(ways, way):
+    """The row of events that ends with this way, (pair, event); ways has the one to each pair, None to the first."""
+    row = []
+    while way is not None:
+        row.append(way[1])
+        way = ways[way[0]]
+    row.reverse()
+    return row
 
 
 def map_paper(one, other, stands_for, events):

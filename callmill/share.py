@@ -26,10 +26,16 @@ def put_together(labels, ways):
 
 def numbered(labels):
     """For each label its number: unlike ones are counted as they are first met."""
-    numbers = {}
-    for label in labels:
-        numbers.setdefault(label, len(numbers))
+    numbers = counted(labels)
     return [numbers[label] for label in labels]
+
+
+def counted(things):
+    """The unlike things, as they are first met, each with its number."""
+    numbers = {}
+    for thing in things:
+        numbers.setdefault(thing, len(numbers))
+    return numbers
 
 
 def firsts(numbers):

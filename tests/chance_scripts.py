@@ -107,3 +107,10 @@ def chance_events(chance, count):
     """A row of events, quiet ones among them and such as no pattern has."""
     choices = [("quiet",), ("key", 0), ("key", 1), ("key", 7), ("key", 4), ("word", "yes"), ("word", "other"), ("word", "zz")]
     return [chance.choice(choices) for place in range(count)]
+
+
+def any_events(chance, count):
+    """A row of events: all keys, words of patterns and others."""
+    words = ("yes", "other", "a", "b", "zz", "quiet", "abcdefgh")
+    choices = [("quiet",)] * 3 + [("key", k) for k in range(10)] + [("word", w) for w in words]
+    return [chance.choice(choices) for place in range(count)]
