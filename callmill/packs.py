@@ -140,7 +140,7 @@ def whole_pack(events, texts, cells):
 
 def whole_shape(shape, cells, count):
     """Whether these are a shape's cells: its places rise and are of so many events, its sayings and rooms are there."""
-    if len(shape) < 2 or len(shape) % 3 != 2:
+    if len(shape) % 3 != 2:
         return False
     ahead = -1
     pairs = [(shape[0], shape[1])]
