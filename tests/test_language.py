@@ -1,4 +1,4 @@
-"""The part of Python that the package keeps to: many of its rules, not all of them (of L15, L18, L19, L22 and L26 a part, of L28 nothing)."""
+"""The part of Python that the package keeps to: many of its rules, not all of them (of L15, L18, L19, L22 and L26 a part)."""
 
 import ast
 import builtins
@@ -203,6 +203,16 @@ class Written(Case):
         for where, node in self.nodes(ast.Call):
             if isinstance(node.func, ast.Attribute):
                 self.assertIn(node.func.attr, METHODS | methods, where)
+
+    def test_methods_with_two_underscores(self):
+        for where, node in self.nodes(ast.FunctionDef):
+            # Of those that L28 tells of, the package has this one alone.
+            self.assertTrue(node.name == "__init__" or not node.name.startswith("__"), where)
+            if node.name == "__init__":
+                self.assertFalse([each for each in ast.walk(node) if isinstance(each, ast.Return)], where)
+        for where, node in self.nodes(ast.Attribute):
+            if node.attr == "__init__":
+                self.assertIsInstance(node.value, ast.Name, where)
 
     def test_walked_at_once(self):
         walked = {id(node.iter) for where, node in self.nodes(ast.For, ast.comprehension)}
